@@ -325,7 +325,7 @@ func TestSameAtTheEdges(t *testing.T) {
 		"fn f():bool{return kill2()&&false||true;}fn kill2():bool{kill(null);return true;}", // what asks stays
 		"fn f():bool{return false&&kill2()||true||kill2();}fn kill2():bool{kill(null);return true;}",
 		"var v:int;fn f(){if true{v=1;if true{let v2:int=v+1;v=v2;}}else{v=9;}while false{v=7;}v=v*2;return;v=5;}",
-		"var v:int;fn f(){if v<1{v=v+1;}else{if false{v=3;}}tofix(1);toint(1.5);}",
+		"var v:int;fn f(){if v<1{v=v+1;}else{if false{v=3;}}tofix(v+(1+1));toint(-1.5);return;tofix(1);}",
 		"fn f():int{while true{if true{return 1+1;}}return 3;}",
 		"fn f():fix{return (2147483647.5+2147483647.5)*0.5-tofix(" + maxInt + ")/0.25;}",
 		"fn f():int{return -(-(" + maxInt + "-0))*" + maxInt + "*3;}",

@@ -100,13 +100,7 @@ func modelValue(t *testing.T, e api.Expr) (int, int) {
 func modelBlock(t *testing.T, list []api.Stmt) []api.Stmt {
 	l := []api.Stmt{}
 	for _, s := range list {
-		if s.Kind == api.StmtCall {
-			call := s.Exprs[0]
-			call.Args = modelExprs(t, call.Args)
-			s.Exprs = []api.Expr{call}
-		} else {
-			s.Exprs = modelExprs(t, s.Exprs)
-		}
+		s.Exprs = modelExprs(t, s.Exprs)
 		s.Body, s.Else = modelBlock(t, s.Body), modelBlock(t, s.Else)
 		l = append(l, s)
 	}
@@ -200,7 +194,7 @@ func TestMadeModsAsTheModel(t *testing.T) {
 			t.Fatalf("Fold of %s: %v and %s", text, f, tell(got))
 		}
 	}
-	if changed < 1300 || refused > 10 {
+	if changed < 1300 || refused < 30 || refused > 150 {
 		t.Errorf("%d mods were changed, %d refused", changed, refused)
 	}
 }
@@ -253,7 +247,7 @@ func TestAllSmallExpressions(t *testing.T) {
 // TestAllSmallBlocks tries all pairs of these statements, alone and within others.
 func TestAllSmallBlocks(t *testing.T) {
 	pieces := []string{"g(1);", "return;", "if b{return;}else{return;}", "if b{g(1);}", "if true{g(1);}", "if true{g(1);return;}else{g(2);}",
-		"if false{return;}else{g(2);}", "while false{g(1);}", "while true{g(1);}", "if true{let z:int=1;}", "if false{let z:int=1;}", "tofix(1);"}
+		"if false{return;}else{g(2);}", "while false{g(1);}", "while true{g(1);}", "if true{let z:int=1;}", "if false{let z:int=1;}", "tofix(1);", "tofix(-1);"}
 	around := []string{"#", "if true{#}g(3);", "if false{g(3);}else{#}g(4);", "if b{#}else{return;}g(3);", "if true{let y:int=1;#}else{return;}g(4);", "while b{#}"}
 	const head = "fn g(x:int){}fn f(b:bool){"
 	for _, a := range append(pieces, "let w:int=1;") {

@@ -174,7 +174,7 @@ func TestTreesAreLeftAlone(t *testing.T) {
 	sources := []string{
 		"", "fn f(){}", "var a:int=3;", "fn f():int{return 1+2*3;}", "fn f(b:bool):bool{return !!b&&true;}",
 		"var v:int;fn f(x:int,y:int){if true{v=1+1;if false{}else{f(x,y);g(1);}return;}let a:int=1;}fn g(z:int){}",
-		"fn f(){g();}", "fn f():int{}", // what is refused
+		"fn f(){g();}", "fn f():int{}", "fn f(){tofix(1);f();}", // what is refused
 	}
 	for seed := range int64(40) {
 		sources = append(sources, made(t, seed).source)

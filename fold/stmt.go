@@ -16,11 +16,6 @@ func (f *folder) block(list []api.Stmt) []api.Stmt {
 
 // stmt answers the statements that a statement comes to.
 func (f *folder) stmt(s api.Stmt) []api.Stmt {
-	if s.Kind == api.StmtCall {
-		// A statement can't be a value: so its call stays one, whatever is known of it.
-		f.exprs(s.Exprs[0].Args)
-		return []api.Stmt{s}
-	}
 	f.exprs(s.Exprs)
 	s.Body, s.Else = f.block(s.Body), f.block(s.Else)
 	switch {

@@ -62,19 +62,58 @@ func TestExpressionsOfStatements(t *testing.T) {
 	wantFolded(t, "fn f():bool{return !!(1<2);}fn g():fix{return 1.0+1.0;}", "fn f():bool{return true;}fn g():fix{return 2.0;}")
 }
 
+// wantStmtsRefused asks that statements come to something that is no tree.
+func wantStmtsRefused(t *testing.T, all ...string) {
+	t.Helper()
+	for _, source := range all {
+		for _, s := range inBodies(source) {
+			checked(t, s)
+			wantRunError(t, s, parsed(t, s))
+		}
+	}
+}
+
 func TestCallsThatAreStatements(t *testing.T) {
-	// A call that is a statement stays one: a value is no statement. What it is
-	// given is folded.
 	wantStmts(t, map[string]string{
-		"tofix(1);":              "=",
-		"toint(1.5);":            "=",
-		"tofix(1+2);":            "tofix(3);",
-		"toint(0.5+0.5);":        "toint(1.0);",
-		"tofix(toint(2.5));":     "tofix(2);",
-		"toint(tofix(i*(1+1)));": "toint(tofix(i*2));",
-		"tofix(-1);tofix(i);":    "=",
-		"if true{tofix(1);}":     "tofix(1);",
-		"while b{toint(-0.0);}":  "while b{toint(0.0);}",
+		"tofix(i);toint(x);":           "=",
+		"tofix(-1);toint(-0.5);":       "=",
+		"tofix(1-2);toint(0.5-1.0);":   "=",
+		"tofix(1/0);":                  "=",
+		"tofix(i+(1+1));":              "tofix(i+2);",
+		"toint(tofix(i*(1+1)));":       "toint(tofix(i*2));",
+		"hf(tofix(1));hi(toint(1.5));": "hf(1.0);hi(1);",
+		"g(toint(tofix(1)));kill(e);":  "g(1);kill(e);",
+	})
+}
+
+func TestCallsThatBecomeValues(t *testing.T) {
+	// A value is no statement.
+	wantStmtsRefused(t,
+		"tofix(1);", "tofix(0);", "toint(1.5);", "toint(0.0);", "tofix(1+2);", "toint(0.5+0.5);", "tofix(-0);", "toint(-0.0);",
+		"tofix(toint(2.5));", "toint(tofix(1));", "tofix("+maxInt+");", "toint("+minFix+");",
+		"g(1);tofix(1);g(2);", "tofix(i);tofix(1);", "tofix(1);return 1;",
+		"if true{tofix(1);}", "if false{}else{tofix(1);}", "if b{tofix(1);}", "if b{}else{tofix(1);}", "if b{}else if gb{tofix(1);}",
+		"while b{toint(-0.0);}", "while true{toint(0.5);}", "if b{return 1;}tofix(1);", "while b{return 1;}tofix(1);",
+		// What stays for a let stays as a whole.
+		"if true{let a:int=1;tofix(a);tofix(1);}", "if true{let a:int=1;}else{tofix(1);}", "if false{tofix(1);}else{let a:int=1;}",
+	)
+	wantRunError(t, "the second function", parsed(t, "fn f(){f();}fn g(){tofix(1);}"))
+}
+
+func TestCallsThatBecomeValuesAndGo(t *testing.T) {
+	wantStmts(t, map[string]string{
+		"return 1;tofix(1);":                               "return 1;",
+		"if b{return 1;}else{return 1;}toint(0.5);":        "if b{return 1;}else{return 1;}",
+		"while b{return 1;tofix(1);}":                      "while b{return 1;}",
+		"if true{return 1;}tofix(1);":                      "return 1;",
+		"if false{tofix(1);}":                              "",
+		"if true{g(1);}else{tofix(1);}":                    "g(1);",
+		"if 1>2{tofix(1);let a:int=1;}else{g(1);}":         "g(1);",
+		"if b{g(1);}else if false{tofix(1);}":              "if b{g(1);}",
+		"while false{toint(1.0);}":                         "",
+		"while false&&b{toint(1.0);}":                      "",
+		"while false{if b{tofix(1);}}":                     "",
+		"if true{let a:int=1;return 1;tofix(a);tofix(1);}": "if true{let a:int=1;return 1;}",
 	})
 }
 
